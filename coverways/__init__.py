@@ -1,0 +1,1 @@
+"""Coverways: routes gathered to fewer, for all addresses and all withdrawals."""
