@@ -1,6 +1,6 @@
 """Widths, bits, names, goals, addresses, stretches, and the cells of some stretches."""
 
-from coverways.errors import InvalidAddress, InvalidStretch, InvalidStretches, InvalidWidth
+from coverways.errors import InvalidAddress, InvalidStretch, InvalidStretches, InvalidWidth, OtherWidth
 
 MOST_WIDTH = 100
 MOST_LETTERS = 6
@@ -68,6 +68,12 @@ def check_address(width, address):
     """InvalidWidth, or InvalidAddress unless it is an address of the width."""
     if not is_address(width, address):
         raise InvalidAddress(address)
+
+
+def check_same_width(one, other):
+    """OtherWidth unless the two widths are equal."""
+    if one != other:
+        raise OtherWidth(one, other)
 
 
 def number(width, stretch):

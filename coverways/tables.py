@@ -1,7 +1,8 @@
 """Tables: rows that tell for all addresses with some beginning to which goal they go."""
 
-from coverways.errors import InvalidRows, OtherWidth, TooMany, UnknownStretch
-from coverways.stretches import cells, check_address, check_width, is_goal, is_stretch, longest_beginning
+from coverways.errors import InvalidRows, TooMany, UnknownStretch
+from coverways.stretches import (cells, check_address, check_same_width, check_width, is_goal, is_stretch,
+                                 longest_beginning)
 
 
 class Table:
@@ -81,8 +82,7 @@ class Table:
         return Table(self._width, {stretch: goal for stretch, goal in self._rows.items() if stretch != other})
 
     def __or__(self, other):
-        if self._width != other._width:
-            raise OtherWidth(self._width, other._width)
+        check_same_width(self._width, other._width)
         return Table(self._width, {**self._rows, **other._rows})
 
     def __le__(self, other):

@@ -14,12 +14,42 @@ STAGE_1 = """
 ['b', '11', 4, False, 'hole', Table(2, {'': 'b'})]
 """
 
+STAGE_2 = """
+>>> from coverways.beside import first_unlike, is_alike, joined, numbers, within
+>>> short = Table(2, {"": "a", "01": "b", "11": "b"})
+>>> [is_alike(table, short), first_unlike(table, short - "01"), numbers(short, ["1"]), within(short, "1"), within(short, "0") == within(short, "1")]
+[True, '01', {'a': 1, 'b': 1}, Table(1, {'': 'a', '1': 'b'}), True]
+>>> joined(Table(1, {"": "a"}), Table(1))
+Table(2, {'0': 'a'})
+"""
+
+STAGE_3 = """
+>>> from coverways.packs import is_pack, path
+>>> from coverways.spare import fewest, need_at, set_at, spare
+>>> [set_at(table, ""), need_at(table, "0"), fewest(table), spare(table), fewest(table, ["1"]), spare(table, ["1"])]
+[['a', 'b'], 1, 3, Table(2, {'': 'a', '01': 'b', '11': 'b'}), 2, Table(2, {'': 'a', '01': 'b'})]
+>>> [path(2, "11", "10"), is_pack(table, [(None, "00"), (None, "01"), ("11", "10")]), is_pack(table, [("00", "01"), ("01", "00")])]
+[[('11', 'up'), ('10', 'down')], True, False]
+"""
+
+# What speaks of nets.
+STAGE_4 = """
+>>> from coverways.nets import Net
+>>> net = Net({"x": Table(2, {"": "y"}), "y": Table(2, {"0": "home", "": "x", "11": "hole"})})
+>>> [net.way("x", "10"), net.fate("y", "10"), net.end("x", "11")]
+[['x', 'y'], ('ring', 'x'), 'hole']
+"""
+
 OVERVIEW = """
 >>> from coverways.tables import Table
 >>> long = Table(2, {"00": "a", "10": "a", "01": "b", "11": "b"})
 >>> short = Table(2, {"": "a", "01": "b", "11": "b"})
 >>> [[table(address) for address in ("00", "01", "10", "11")] for table in (long, short)]
 [['a', 'b', 'a', 'b'], ['a', 'b', 'a', 'b']]
+>>> from coverways.packs import pack
+>>> from coverways.spare import fewest
+>>> [fewest(long), fewest(short), len(pack(long))]
+[3, 3, 3]
 """
 
 
@@ -33,6 +63,15 @@ class Examples(unittest.TestCase):
 
     def test_stage_1(self):
         self.check(STAGE_1, "Stage 1: interface")
+
+    def test_stage_2(self):
+        self.check(STAGE_1 + STAGE_2, "Stage 2: interface")
+
+    def test_stage_3(self):
+        self.check(STAGE_1 + STAGE_2 + STAGE_3, "Stage 3: interface")
+
+    def test_stage_4(self):
+        self.check(STAGE_1 + STAGE_4, "Stage 4: interface")
 
     def test_the_overview(self):
         self.check(OVERVIEW, "Overview")

@@ -1,59 +1,118 @@
 """Where the names of the interface stand, and what they take."""
 
+import importlib
 import inspect
 import os
 import unittest
 
 import coverways
-from coverways import errors, stretches, tables
+from coverways import errors, nets, tables
 
 FUNCTIONS = {
-    "is_width": "(value)",
-    "is_bits": "(value)",
-    "is_name": "(value)",
-    "is_goal": "(value)",
-    "is_address": "(width, value)",
-    "is_stretch": "(width, value)",
-    "number": "(width, stretch)",
-    "first": "(width, stretch)",
-    "last": "(width, stretch)",
-    "common": "(one, other)",
-    "cells": "(width, stretches)",
-    "cell_of": "(width, stretches, address)",
+    "stretches": {
+        "is_width": "(value)",
+        "is_bits": "(value)",
+        "is_name": "(value)",
+        "is_goal": "(value)",
+        "is_address": "(width, value)",
+        "is_stretch": "(width, value)",
+        "number": "(width, stretch)",
+        "first": "(width, stretch)",
+        "last": "(width, stretch)",
+        "common": "(one, other)",
+        "cells": "(width, stretches)",
+        "cell_of": "(width, stretches, address)",
+    },
+    "beside": {
+        "is_used": "(width, free, address)",
+        "used_number": "(width, free)",
+        "numbers": "(table, free=())",
+        "first_with": "(table, goal, free=())",
+        "is_alike": "(one, other, free=())",
+        "first_unlike": "(one, other, free=())",
+        "unlike_number": "(one, other, free=())",
+        "within": "(table, stretch)",
+        "joined": "(zero, one)",
+    },
+    "spare": {
+        "set_at": "(table, stretch, free=())",
+        "need_at": "(table, stretch, free=())",
+        "fewest": "(table, free=())",
+        "spare": "(table, free=())",
+        "is_spare": "(table, free=())",
+    },
+    "packs": {
+        "path": "(width, begin, end)",
+        "pack": "(table, free=())",
+        "is_pack": "(table, value, free=())",
+    },
 }
 
 METHODS = {
-    "__init__": "(self, width, rows=None)",
-    "of": "(width, *rows)",
-    "rows": "(self)",
-    "row": "(self, address)",
-    "cells": "(self)",
-    "__call__": "(self, address)",
+    ("tables", "Table"): {
+        "__init__": "(self, width, rows=None)",
+        "of": "(width, *rows)",
+        "rows": "(self)",
+        "row": "(self, address)",
+        "cells": "(self)",
+        "__call__": "(self, address)",
+    },
+    ("nets", "Net"): {
+        "__init__": "(self, tables)",
+        "hops": "(self)",
+        "cells": "(self)",
+        "with_table": "(self, hop, table)",
+        "way": "(self, hop, address)",
+        "end": "(self, hop, address)",
+        "fate": "(self, hop, address)",
+        "__call__": "(self, hop, address)",
+    },
 }
 
-SIGNS = ["__getitem__", "__len__", "__contains__", "__add__", "__radd__", "__sub__", "__or__", "__le__", "__ge__",
-         "__eq__", "__repr__"]
+SIGNS = {
+    ("tables", "Table"): ["__getitem__", "__len__", "__contains__", "__add__", "__radd__", "__sub__", "__or__",
+                          "__le__", "__ge__", "__eq__", "__repr__"],
+    ("nets", "Net"): ["__getitem__", "__len__", "__contains__", "__eq__", "__repr__"],
+}
+
+PROPERTIES = {
+    ("tables", "Table"): ["width"],
+    ("nets", "Net"): ["width", "many_rows"],
+}
+
+
+def class_of(place):
+    file, name = place
+    return getattr(importlib.import_module(f"coverways.{file}"), name)
 
 
 class Layout(unittest.TestCase):
     def test_functions_are_defined_in_their_file(self):
-        for name, parameters in FUNCTIONS.items():
-            function = getattr(stretches, name)
-            self.assertEqual(function.__module__, "coverways.stretches")
-            self.assertEqual(str(inspect.signature(function)), parameters, name)
+        for file, told in FUNCTIONS.items():
+            for name, parameters in told.items():
+                function = getattr(importlib.import_module(f"coverways.{file}"), name)
+                self.assertEqual(function.__module__, f"coverways.{file}")
+                self.assertEqual(str(inspect.signature(function)), parameters, name)
 
     def test_methods_are_defined_in_the_class_itself(self):
-        self.assertEqual(tables.Table.__module__, "coverways.tables")
-        for name, parameters in METHODS.items():
-            self.assertIn(name, vars(tables.Table))
-            self.assertEqual(str(inspect.signature(getattr(tables.Table, name))), parameters, name)
-        for name in SIGNS:
-            self.assertIn(name, vars(tables.Table))
+        for place, told in METHODS.items():
+            kind = class_of(place)
+            self.assertEqual(kind.__module__, f"coverways.{place[0]}")
+            for name, parameters in told.items():
+                self.assertIn(name, vars(kind))
+                self.assertEqual(str(inspect.signature(getattr(kind, name))), parameters, name)
+
+    def test_signs_are_defined_in_the_class_itself(self):
+        for place, names in SIGNS.items():
+            for name in names:
+                self.assertIn(name, vars(class_of(place)))
 
     def test_kinds_of_members(self):
         self.assertIsInstance(vars(tables.Table)["of"], staticmethod)
-        self.assertIsInstance(vars(tables.Table)["width"], property)
-        self.assertEqual(tables.Table.MOST_ROWS, 40)
+        for place, names in PROPERTIES.items():
+            for name in names:
+                self.assertIsInstance(vars(class_of(place))[name], property)
+        self.assertEqual([tables.Table.MOST_ROWS, nets.Net.MOST_HOPS, nets.Net.MOST_ROWS], [40, 6, 70])
 
     def test_errors_are_defined_in_their_file(self):
         for value in vars(errors).values():
