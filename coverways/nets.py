@@ -1,7 +1,7 @@
 """Nets: hops with a table each, and the ways, ends and fates of addresses in them."""
 
 from coverways.errors import InvalidTables, OtherWidth, TooMany, UnknownGoal, UnknownHop
-from coverways.stretches import cells, check_address, is_name
+from coverways.stretches import cells, is_name
 from coverways.tables import Table
 
 
@@ -48,7 +48,7 @@ class Net:
 
     def way(self, hop, address):
         """The list of the hops that the address passes from the hop."""
-        self._check(hop, address)
+        check_hop(self, hop)
         return way_by(goals_at(self, address), hop)
 
     def end(self, hop, address):
@@ -57,7 +57,7 @@ class Net:
 
     def fate(self, hop, address):
         """The tuple of the end and the last hop of the way, but of a ring the first one, sorted."""
-        self._check(hop, address)
+        check_hop(self, hop)
         return fate_by(goals_at(self, address), hop)
 
     def __call__(self, hop, address):
@@ -65,8 +65,7 @@ class Net:
         return table(address)
 
     def __getitem__(self, at):
-        if at not in self:
-            raise UnknownHop(at)
+        check_hop(self, at)
         return self._tables[at]
 
     def __iter__(self):
@@ -84,10 +83,11 @@ class Net:
     def __repr__(self):
         return f"Net({self._tables!r})"
 
-    def _check(self, hop, address):
-        if hop not in self:
-            raise UnknownHop(hop)
-        check_address(self.width, address)
+
+def check_hop(net, hop):
+    """UnknownHop unless it is a hop of the net."""
+    if hop not in net:
+        raise UnknownHop(hop)
 
 
 def stretches_of(net):
@@ -96,7 +96,7 @@ def stretches_of(net):
 
 
 def goals_at(net, address):
-    """The dict from all hops to the goals of the address there."""
+    """The dict from all hops to the goals of the address there; InvalidAddress."""
     return {hop: net(hop, address) for hop in net.hops()}
 
 

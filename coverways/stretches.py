@@ -9,9 +9,14 @@ ENDS = ("home", "hole")
 NO_NAMES = ("home", "hole", "ring", "all", "none")
 
 
+def is_count(value):
+    """Whether the value is a COUNT."""
+    return isinstance(value, int) and not isinstance(value, bool) and value >= 0
+
+
 def is_width(value):
     """Whether the value is a WIDTH."""
-    return isinstance(value, int) and not isinstance(value, bool) and 1 <= value <= MOST_WIDTH
+    return is_count(value) and 1 <= value <= MOST_WIDTH
 
 
 def is_bits(value):

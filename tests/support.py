@@ -5,7 +5,11 @@ import unittest
 from itertools import product
 
 from coverways.errors import InvalidAddress, InvalidFree, InvalidGoal, InvalidStretch, TooMany, UnknownHop
+from coverways.late import Late
+from coverways.nets import Net
 from coverways.tables import Table
+
+HOPS = ("a", "b", "c", "x", "y", "z")
 
 WRONG_WIDTHS = [None, True, False, 0, -1, 101, 10 ** 30, "", "1", b"1", [1], (1,), {1: 1}, object()]
 WRONG_LISTS = [None, True, False, 0, 1, "", "0", b"0", {}, {"0": 1}, {"0"}, object()]
@@ -47,6 +51,19 @@ def random_free(chance, width, most):
     """Unlike stretches by a source of chance, mostly longer ones."""
     told = [random_stretch(chance, width) for _ in range(chance.randrange(most + 1))]
     return [stretch for at, stretch in enumerate(told) if stretch not in told[:at]]
+
+
+def random_net(chance, most_width, most_hops, most_rows):
+    """A net by a source of chance."""
+    hops = chance.sample(HOPS, chance.randrange(1, most_hops + 1))
+    width = chance.randrange(1, most_width + 1)
+    return Net({hop: random_table(chance, width, most_rows, (*hops, "home", "hole")) for hop in hops})
+
+
+def random_late(chance, most_width, most_hops, most_rows):
+    """A late net by a source of chance, with about as many firm rows as loose ones."""
+    net = random_net(chance, most_width, most_hops, most_rows)
+    return Late(net, {hop: [stretch for stretch in net[hop].rows() if chance.randrange(3) == 0] for hop in net.hops()})
 
 
 class Case(unittest.TestCase):

@@ -32,12 +32,22 @@ STAGE_3 = """
 [[('11', 'up'), ('10', 'down')], True, False]
 """
 
-# What speaks of nets.
 STAGE_4 = """
+>>> from coverways.fates import fates, first_astray, rings
 >>> from coverways.nets import Net
 >>> net = Net({"x": Table(2, {"": "y"}), "y": Table(2, {"0": "home", "": "x", "11": "hole"})})
->>> [net.way("x", "10"), net.fate("y", "10"), net.end("x", "11")]
-[['x', 'y'], ('ring', 'x'), 'hole']
+>>> [net.way("x", "10"), net.fate("y", "10"), net.end("x", "11"), rings(net), first_astray(net), fates(net, "x")]
+[['x', 'y'], ('ring', 'x'), 'hole', [('', ('x', 'y'))], ('10', 'x'), {('hole', 'y'): 1, ('home', 'y'): 2, ('ring', 'x'): 1}]
+"""
+
+STAGE_5 = """
+>>> from coverways.late import Late
+>>> from coverways.moments import ends, is_ring_paper, is_safe_late, longest
+>>> late = Late(Net({"x": Table(1, {"0": "home", "": "y"}), "y": Table(1, {"0": "x", "": "home"})}), {"x": [""], "y": [""]})
+>>> [late.chain("x", "0"), late.heads("y", "0"), ends(late, "y", "0"), is_safe_late(late), late.at([("y", "0")]).end("y", "0")]
+[['0', ''], ['x', 'home'], ['home', 'ring'], False, 'home']
+>>> [is_ring_paper(late, ("0", ["x", "y"], [("x", "0")])), longest(late.made_firm("x", "0"))]
+[True, 2]
 """
 
 OVERVIEW = """
@@ -72,6 +82,9 @@ class Examples(unittest.TestCase):
 
     def test_stage_4(self):
         self.check(STAGE_1 + STAGE_4, "Stage 4: interface")
+
+    def test_stage_5(self):
+        self.check(STAGE_1 + STAGE_4 + STAGE_5, "Stage 5: interface")
 
     def test_the_overview(self):
         self.check(OVERVIEW, "Overview")

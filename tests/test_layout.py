@@ -46,6 +46,25 @@ FUNCTIONS = {
         "pack": "(table, free=())",
         "is_pack": "(table, value, free=())",
     },
+    "fates": {
+        "fates": "(net, hop)",
+        "first_fated": "(net, hop, fate)",
+        "rings": "(net)",
+        "first_astray": "(net)",
+        "farthest": "(net)",
+        "is_same": "(one, other)",
+        "first_other": "(one, other)",
+    },
+    "moments": {
+        "is_safe_late": "(late)",
+        "ranks": "(late)",
+        "are_ranks": "(late, value)",
+        "ring_paper": "(late)",
+        "is_ring_paper": "(late, value)",
+        "longest": "(late)",
+        "ends": "(late, hop, address)",
+        "sure_number": "(late, hop)",
+    },
 }
 
 METHODS = {
@@ -67,17 +86,50 @@ METHODS = {
         "fate": "(self, hop, address)",
         "__call__": "(self, hop, address)",
     },
+    ("late", "Late"): {
+        "__init__": "(self, net, firm=None)",
+        "firm": "(self)",
+        "loose": "(self)",
+        "chain": "(self, hop, address)",
+        "heads": "(self, hop, address)",
+        "at": "(self, gone)",
+        "made_firm": "(self, hop, stretch)",
+        "made_loose": "(self, hop, stretch)",
+    },
+    ("items", "Item"): {
+        "__init__": "(self, name, stretch, keeper, way=None)",
+        "way": "(self)",
+        "sees": "(self)",
+        "told": "(self)",
+    },
+    ("items", "Leaf"): {
+        "told": "(self)",
+    },
+    ("items", "Gatherer"): {
+        "__init__": "(self, name, stretch, keeper, members, way=None)",
+        "members": "(self)",
+        "told": "(self)",
+    },
+    ("items", "Holed"): {
+        "told": "(self)",
+    },
 }
 
 SIGNS = {
     ("tables", "Table"): ["__getitem__", "__len__", "__contains__", "__add__", "__radd__", "__sub__", "__or__",
                           "__le__", "__ge__", "__eq__", "__repr__"],
     ("nets", "Net"): ["__getitem__", "__len__", "__contains__", "__eq__", "__repr__"],
+    ("late", "Late"): ["__le__", "__ge__", "__eq__", "__repr__"],
+    ("items", "Item"): ["__eq__", "__repr__"],
+    ("items", "Leaf"): ["__repr__"],
+    ("items", "Gatherer"): ["__repr__"],
+    ("items", "Closed"): ["__repr__"],
 }
 
 PROPERTIES = {
     ("tables", "Table"): ["width"],
     ("nets", "Net"): ["width", "many_rows"],
+    ("late", "Late"): ["net"],
 }
 
 

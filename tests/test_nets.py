@@ -6,19 +6,11 @@ from coverways.errors import InvalidAddress, InvalidTables, OtherWidth, TooMany,
 from coverways.nets import Net
 from coverways.stretches import cells
 from coverways.tables import Table
-from tests.support import WRONG_HOPS, Case, random_table, strings
+from tests.support import HOPS, WRONG_HOPS, Case, random_net, strings
 
-HOPS = ("a", "b", "c", "x", "y", "z")
 NO_NAMES = [None, True, False, 0, 1, "", "abcdefg", "home", "hole", "ring", "all", "none", "A", "x1", b"x", ("x",)]
 RING = Net({"x": Table(2, {"": "y"}), "y": Table(2, {"0": "home", "": "x", "11": "hole"})})
 FIVE = Net({"x": Table(5, {"": "y"}), "y": Table(5), "z": Table(5, {"0": "z", "": "x"})})
-
-
-def random_net(chance, most_width=4):
-    """A net by a source of chance."""
-    hops = chance.sample(HOPS, chance.randrange(1, 7))
-    width = chance.randrange(1, most_width + 1)
-    return Net({hop: random_table(chance, width, 4, (*hops, "home", "hole")) for hop in hops})
 
 
 def way_by_words(net, hop, address):
@@ -168,7 +160,7 @@ class Ways(Case):
         chance = random.Random(31)
         ends = {"home": 0, "hole": 0, "ring": 0}
         for _ in range(300):
-            net = random_net(chance)
+            net = random_net(chance, 4, 6, 4)
             for address in strings(net.width):
                 for hop in net.hops():
                     way, end, ring = way_by_words(net, hop, address)
