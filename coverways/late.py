@@ -59,7 +59,7 @@ class Late:
             raise InvalidGone(None)
         loose = self.loose()
         for position, row in enumerate(gone):
-            if not _is_loose(loose, row) or row in gone[:position]:
+            if row not in loose or row in gone[:position]:
                 raise InvalidGone(position)
         return Net({hop: self._table_without(hop, gone) for hop in self._net.hops()})
 
@@ -91,7 +91,6 @@ class Late:
 
     def _others(self, hop, stretch):
         """The stretches of the firm rows of the hop but this one, which is that of a row there."""
-        check_hop(self._net, hop)
         if stretch not in self._net[hop]:
             raise UnknownStretch(stretch)
         return [row for row in self._firm[hop] if row != stretch]
@@ -115,10 +114,3 @@ def _is_part(table, value):
     if not isinstance(value, (list, tuple)):
         return False
     return all([stretch in table and stretch not in value[:at] for at, stretch in enumerate(value)])
-
-
-def _is_loose(loose, value):
-    """Whether it is a tuple (hop, stretch) of a loose row."""
-    if not isinstance(value, tuple) or len(value) != 2:
-        return False
-    return value in loose

@@ -105,6 +105,14 @@ class AllKinds(Case):
                 self.assertIs(item(kind) == item(other), kind is other)
                 self.assertIs(item(kind) != item(other), kind is not other)
 
+    def test_what_is_shown_alike_is_not_equal(self):
+        class Other:
+            def __repr__(self):
+                return repr(Leaf("p", "", "k"))
+
+        self.assertEqual(repr(Leaf("p", "", "k")), repr(Other()))
+        self.assertFalse(Leaf("p", "", "k") == Other())
+
     def test_arguments_by_name(self):
         self.assertEqual(Item(way=WAY, keeper="k", stretch="", name="p"), Item("p", "", "k", WAY))
         self.assertEqual(Leaf(way=WAY, keeper="k", stretch="", name="p"), Leaf("p", "", "k", WAY))

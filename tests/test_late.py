@@ -195,8 +195,8 @@ class Signs(Case):
         self.assertTrue(LATE == Late(NET, {"y": ("1",), "x": ["01", ""], "z": ()}))
         self.assertFalse(LATE != Late(NET, PART))
         self.assertTrue(Late(NET) == Late(NET, {"x": []}))
-        for other in (Late(NET), LATE.made_firm("x", "0"), Late(NET.with_table("q", Table(2)), PART), NET, PART, None,
-                      "x", [LATE]):
+        for other in (Late(NET), LATE.made_firm("x", "0"), Late(NET.with_table("q", Table(2)), PART),
+                      Late(NET.with_table("z", Table(2, {"0": "x"})), PART), NET, PART, None, "x", [LATE]):
             self.assertFalse(LATE == other)
             self.assertTrue(LATE != other)
 

@@ -180,7 +180,9 @@ class RanksOfOtherKinds(Case):
 
     def test_what_is_wrong_in_one_place(self):
         for stretch in SAFE_RANKS:
-            self.assertIs(are_ranks(SAFE, {key: SAFE_RANKS[key] for key in SAFE_RANKS if key != stretch}), False)
+            rest = {key: SAFE_RANKS[key] for key in SAFE_RANKS if key != stretch}
+            for value in (rest, {**rest, "01": SAFE_RANKS[stretch]}, {**rest, None: SAFE_RANKS[stretch]}):
+                self.assertIs(are_ranks(SAFE, value), False)
             for wrong in WRONG_LISTS + [[], (), [0, 0, 0], ["x", "y", "z"], Table(1), SAFE]:
                 self.assertIs(are_ranks(SAFE, {**SAFE_RANKS, stretch: wrong}), False)
             for hop in ("x", "y", "z"):
