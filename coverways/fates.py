@@ -1,8 +1,8 @@
 """What becomes of all addresses in a net: fates, rings, the farthest way, and nets that do the same."""
 
 from coverways.errors import OtherHops
-from coverways.nets import check_hop, fate_by, goals_at, ring_by, stretches_of, way_by
-from coverways.stretches import cells, check_same_width
+from coverways.nets import check_hop, fate_by, goals_at, rings_by, stretches_of, way_by
+from coverways.stretches import check_same_width, first_addresses
 
 # Sorted, as fates are.
 WORDS = ("hole", "home", "ring")
@@ -22,7 +22,7 @@ def fates(net, hop):
 def first_fated(net, hop, fate):
     """The first address with this fate, any value, from the hop; None."""
     check_hop(net, hop)
-    for address in _first_addresses(net.width, stretches_of(net)):
+    for address in first_addresses(net.width, stretches_of(net)):
         if net.fate(hop, address) == fate:
             return address
     return None
@@ -33,13 +33,13 @@ def rings(net):
     told = []
     for stretch, many, address in net.cells():
         if many > 0:
-            told.extend([(stretch, ring) for ring in _rings_at(net, address)])
+            told.extend([(stretch, ring) for ring in rings_by(goals_at(net, address))])
     return told
 
 
 def first_astray(net):
     """The first tuple (address, hop) whose end is not "home"; None."""
-    for address in _first_addresses(net.width, stretches_of(net)):
+    for address in first_addresses(net.width, stretches_of(net)):
         for hop in net.hops():
             if net.end(hop, address) != "home":
                 return address, hop
@@ -49,7 +49,7 @@ def first_astray(net):
 def farthest(net):
     """The tuple (how many hops, address, hop) of the longest way, the first one of these."""
     best = (0, None, None)
-    for address in _first_addresses(net.width, stretches_of(net)):
+    for address in first_addresses(net.width, stretches_of(net)):
         goals = goals_at(net, address)
         for hop in net.hops():
             many = len(way_by(goals, hop))
@@ -67,7 +67,7 @@ def first_other(one, other):
     """The first tuple (address, hop) with unlike fates; None."""
     check_same_width(one.width, other.width)
     check_same_hops(one, other)
-    for address in _first_addresses(one.width, [*stretches_of(one), *stretches_of(other)]):
+    for address in first_addresses(one.width, [*stretches_of(one), *stretches_of(other)]):
         goals, other_goals = goals_at(one, address), goals_at(other, address)
         for hop in one.hops():
             if fate_by(goals, hop) != fate_by(other_goals, hop):
@@ -79,17 +79,3 @@ def check_same_hops(one, other):
     """OtherHops unless the two nets have the same hops."""
     if one.hops() != other.hops():
         raise OtherHops(one.hops(), other.hops())
-
-
-def _first_addresses(width, stretches):
-    """The sorted list of the first addresses of all cells of the stretches that are not empty."""
-    # What is so for the first one of all addresses is so for its whole cell, so it is first there.
-    return sorted([address for _, many, address in cells(width, stretches) if many > 0], key=str)
-
-
-def _rings_at(net, address):
-    """The sorted list of the rings of the address."""
-    goals = goals_at(net, address)
-    told = {hop: ring_by(goals, hop) for hop in net.hops()}
-    # Each ring is told at that of its hops which is the first one, sorted.
-    return [ring for hop, ring in told.items() if ring and ring[0] == hop]

@@ -1,6 +1,7 @@
 """Late nets: firm rows, and loose ones of which any may be gone at a moment."""
 
 from coverways.errors import InvalidFirm, InvalidGone, UnknownStretch
+from coverways.lists import first_wrong, is_list, is_part
 from coverways.nets import Net, check_hop
 from coverways.stretches import check_address
 from coverways.tables import Table
@@ -55,12 +56,11 @@ class Late:
 
     def at(self, gone):
         """The net of the moment at which just these loose rows are gone."""
-        if not isinstance(gone, (list, tuple)):
+        if not is_list(gone):
             raise InvalidGone(None)
-        loose = self.loose()
-        for position, row in enumerate(gone):
-            if row not in loose or row in gone[:position]:
-                raise InvalidGone(position)
+        position = first_wrong(gone, self.loose())
+        if position is not None:
+            raise InvalidGone(position)
         return Net({hop: self._table_without(hop, gone) for hop in self._net.hops()})
 
     def made_firm(self, hop, stretch):
@@ -106,11 +106,4 @@ def _is_firm(net, value):
     """Whether it is a dict from some hops to lists of unlike stretches of rows."""
     if not isinstance(value, dict):
         return False
-    return all([hop in net and _is_part(net[hop], stretches) for hop, stretches in value.items()])
-
-
-def _is_part(table, value):
-    """Whether it is a list of unlike stretches of rows of the table."""
-    if not isinstance(value, (list, tuple)):
-        return False
-    return all([stretch in table and stretch not in value[:at] for at, stretch in enumerate(value)])
+    return all([hop in net and is_part(stretches, net[hop]) for hop, stretches in value.items()])

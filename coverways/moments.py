@@ -1,7 +1,8 @@
 """What can become of addresses at the moments of a late net: ranks, ring papers, ends."""
 
 from coverways.errors import InvalidGone
-from coverways.nets import check_hop, ring_by
+from coverways.lists import is_part
+from coverways.nets import check_hop, goals_at, leads_round, ring_by
 from coverways.stretches import ENDS, is_address, is_count
 
 
@@ -27,7 +28,7 @@ def are_ranks(late, value):
     parts = _parts(late)
     if not isinstance(value, dict) or len(value) != len(parts):
         return False
-    return all([stretch in value and _are_ranks_at(late, address, value[stretch]) for stretch, address in parts])
+    return all([stretch in value and are_ranks_by(_leads(late, address), value[stretch]) for stretch, address in parts])
 
 
 def ring_paper(late):
@@ -46,13 +47,13 @@ def is_ring_paper(late, value):
     if not isinstance(value, tuple) or len(value) != 3:
         return False
     address, ring, gone = value
-    if not is_address(late.net.width, address) or not _are_unlike_hops(late.net, ring):
+    if not is_address(late.net.width, address) or not is_part(ring, late.net) or len(ring) == 0:
         return False
     try:
         net = late.at(gone)
     except InvalidGone:
         return False
-    return all([net(ring[at - 1], address) == hop for at, hop in enumerate(ring)])
+    return leads_round(goals_at(net, address), ring)
 
 
 def longest(late):
@@ -140,18 +141,11 @@ def _heads_from(late, hop, address):
     return heads
 
 
-def _are_ranks_at(late, address, value):
-    """Whether the value is a dict from all hops to COUNTS that fall wherever a hop may lead."""
-    leads = _leads(late, address)
+def are_ranks_by(leads, value):
+    """Whether the value is a dict from all hops to COUNTS that fall wherever a hop leads, by a dict from
+    all hops to the lists of the hops to which each may lead."""
     if not isinstance(value, dict) or len(value) != len(leads):
         return False
     if not all([hop in value and is_count(value[hop]) for hop in leads]):
         return False
     return all([value[hop] > value[goal] for hop, goals in leads.items() for goal in goals])
-
-
-def _are_unlike_hops(net, value):
-    """Whether the value is a list of at least one hop, unlike ones."""
-    if not isinstance(value, (list, tuple)) or len(value) == 0:
-        return False
-    return all([hop in net and hop not in value[:at] for at, hop in enumerate(value)])

@@ -122,6 +122,18 @@ def ring_by(goals, hop):
     return tuple([*ring[start:], *ring[:start]])
 
 
+def rings_by(goals):
+    """The sorted list of all rings by a dict from all hops, sorted, to goals."""
+    told = {hop: ring_by(goals, hop) for hop in goals}
+    # Each ring is told at that of its hops which is the first one, sorted.
+    return [ring for hop, ring in told.items() if ring and ring[0] == hop]
+
+
+def leads_round(goals, ring):
+    """Whether each hop of the list leads to the next one, and the last one to the first one."""
+    return all([goals[ring[at - 1]] == hop for at, hop in enumerate(ring)])
+
+
 def fate_by(goals, hop):
     """The tuple of the end and the hop that tells where, by a dict from all hops to goals."""
     ring = ring_by(goals, hop)

@@ -129,6 +129,12 @@ def cell_of(width, stretches, address):
     return longest_beginning(_with_all(stretches), address)
 
 
+def first_addresses(width, stretches):
+    """The sorted list of the first addresses of all cells of the stretches that are not empty."""
+    # What is so for the first one of all addresses is so for its whole cell, so it is first there.
+    return sorted([address for _, many, address in cells(width, stretches) if many > 0], key=str)
+
+
 def longest_beginning(known, bits):
     """The longest key of the dict with which the bits begin, the bits themselves too; None."""
     for length in range(len(bits), -1, -1):
