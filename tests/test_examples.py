@@ -4,6 +4,8 @@ import doctest
 import os
 import unittest
 
+FOLDER = os.path.dirname(os.path.dirname(os.path.abspath(__file__)))
+
 STAGE_1 = """
 >>> from coverways.stretches import cells, common, first, number
 >>> from coverways.tables import Table
@@ -50,6 +52,48 @@ STAGE_5 = """
 [True, 2]
 """
 
+STAGE_6 = r"""
+>>> from coverways.gathered import Gathered
+>>> from coverways.items import Closed, Gatherer, Leaf
+>>> from coverways.withdrawals import is_safe, least_sets, patterns
+>>> p, r, q = Leaf("p", "000", "k"), Leaf("r", "001", "k"), Leaf("q", "0", "m", {"k": "h", "h": "m"})
+>>> loose = Gathered(3, [p, r, q, Gatherer("g", "00", "k", ["r", "p"], {"h": "k"})])
+>>> [loose.sent_by("h", "000"), loose.end("h", "000"), loose.sent_by("k", "000", ["p"]), loose.way("h", "000", ["p"]), loose.end("h", "000", ["p"])]
+['g', 'home', 'q', ['h', 'k'], 'ring']
+>>> [is_safe(loose), is_safe(loose.with_hole("g")), least_sets(loose), patterns(loose, "000"), loose.with_hole("g")["g"].told()]
+[False, True, [['g']], [(), ('g',), ('g', 'p'), ('g', 'p', 'q'), ('g', 'q'), ('q',)], 'holed gatherer of 2 g 00 at k']
+"""
+
+STAGE_7 = r"""
+>>> from coverways.gathering import drop, gather, rows_saved
+>>> from coverways.served import first_straying, late_of, served
+>>> wide = Gathered(3, [Leaf("p", "000", "k", {"h": "k"}), Leaf("r", "001", "k", {"h": "k"}), q])
+>>> near = gather(wide, Closed("g", "00", "k", ["p", "r"], {"h": "k"}), ["k"])
+>>> [near["p"].way(), rows_saved(wide, near), served(near, ["p"]).fate("h", "000"), drop(near, "g")["p"].sees(), first_straying(near)]
+[{}, 0, ('hole', 'k'), ['k'], None]
+"""
+
+STAGE_8 = r"""
+>>> from coverways.orders import ahead, family, first_order, is_good
+>>> old = Net({"x": Table(1, {"0": "y", "1": "home"}), "y": Table(1, {"0": "home", "1": "x"})})
+>>> new = Net({"x": Table(1, {"0": "home", "1": "y"}), "y": Table(1, {"0": "x", "1": "home"})})
+>>> [is_good(old, new, ["y"]), first_order(old, new), family(old, new), first_order(old, old.with_table("y", Table(1, {"": "x", "0": "home"})))]
+[False, None, [[]], ['x', 'y']]
+>>> part = Net({"x": Table(1, {"": "home"}), "y": Table(1, {"": "x"})})
+>>> [first_order(old, part), ahead(old, part)]
+[['x', 'y'], [('x', 'y')]]
+"""
+
+STAGE_9 = r"""
+>>> from coverways.desk import Desk, Trial
+>>> from coverways.texts import text_of
+>>> desk = Desk(loose)
+>>> [desk.do("withdraw p"), desk.do("way h 000"), desk.do_all("hole g", "way h 000", "safe"), desk["g"], desk.withdrawn, len(desk)]
+['done', 'h k ring', ['done', 'h k hole', 'yes'], True, ['p'], 2]
+>>> [text_of(Table(2, {"": "a", "01": "hole"})), text_of(near).split("\n")[:6]]
+['table 2\nrow - a\nrow 01 hole\n', ['gathered 3', 'gatherer g 00 k hole', 'member p', 'member r', 'way h k', 'leaf p 000 k']]
+"""
+
 OVERVIEW = """
 >>> from coverways.tables import Table
 >>> long = Table(2, {"00": "a", "10": "a", "01": "b", "11": "b"})
@@ -86,12 +130,26 @@ class Examples(unittest.TestCase):
     def test_stage_5(self):
         self.check(STAGE_1 + STAGE_4 + STAGE_5, "Stage 5: interface")
 
+    def test_stage_6(self):
+        self.check(STAGE_6, "Stage 6: interface")
+
+    def test_stage_7(self):
+        self.check(STAGE_6 + STAGE_7, "Stage 7: interface")
+
+    def test_stage_8(self):
+        self.check(STAGE_1 + STAGE_4 + STAGE_8, "Stage 8: interface")
+
+    def test_stage_9(self):
+        self.check(STAGE_1 + STAGE_6 + STAGE_7 + STAGE_9, "Stage 9: interface")
+
+    def test_all_stages_one_after_the_other(self):
+        self.check(STAGE_1 + STAGE_2 + STAGE_3 + STAGE_4 + STAGE_5 + STAGE_6 + STAGE_7 + STAGE_8 + STAGE_9, "All stages")
+
     def test_the_overview(self):
         self.check(OVERVIEW, "Overview")
 
     def test_the_readme(self):
-        folder = os.path.dirname(os.path.dirname(os.path.abspath(__file__)))
-        with open(os.path.join(folder, "README.md"), encoding="utf-8") as file:
+        with open(os.path.join(FOLDER, "README.md"), encoding="utf-8") as file:
             self.check(file.read(), "README")
 
 

@@ -65,6 +65,60 @@ FUNCTIONS = {
         "ends": "(late, hop, address)",
         "sure_number": "(late, hop)",
     },
+    "withdrawals": {
+        "is_safe": "(gathered)",
+        "round_paper": "(gathered)",
+        "is_round_paper": "(gathered, value)",
+        "patterns": "(gathered, address)",
+        "safe_ranks": "(gathered)",
+        "are_safe_ranks": "(gathered, value)",
+        "ringing_number": "(gathered)",
+        "falls": "(gathered, hop, address, withdrawn=())",
+        "is_enough": "(gathered, names)",
+        "least_sets": "(gathered)",
+    },
+    "served": {
+        "served": "(gathered, withdrawn=())",
+        "late_of": "(gathered)",
+        "lying_number": "(gathered, withdrawn=())",
+        "first_lying": "(gathered, withdrawn=())",
+        "first_straying": "(gathered, withdrawn=())",
+        "told_to": "(gathered, hop, withdrawn=())",
+    },
+    "gathering": {
+        "gather": "(gathered, item, region)",
+        "drop": "(gathered, name)",
+        "rows_saved": "(one, other)",
+        "same_ends": "(one, other)",
+    },
+    "orders": {
+        "mixed": "(old, new, hops)",
+        "is_good": "(old, new, hops, word='home')",
+        "first_bad": "(old, new, hops, word='home')",
+        "first_order": "(old, new, word='home')",
+        "is_order": "(old, new, value, word='home')",
+        "how_many_orders": "(old, new, word='home')",
+        "family": "(old, new, word='home')",
+        "is_family": "(old, new, value, word='home')",
+        "ahead": "(old, new, word='home')",
+    },
+    "texts": {
+        "text_of": "(entry)",
+        "bytes_of": "(entry)",
+        "read_table": "(text)",
+        "read_net": "(text)",
+        "read_late": "(text)",
+        "read_gathered": "(text)",
+    },
+    "claims": {
+        "is_claim": "(value)",
+        "is_true": "(claim)",
+        "paper_of": "(claim)",
+        "is_paper": "(claim, value)",
+    },
+    "desk": {
+        "tried": "(desk, action)",
+    },
 }
 
 METHODS = {
@@ -113,6 +167,33 @@ METHODS = {
     ("items", "Holed"): {
         "told": "(self)",
     },
+    ("gathered", "Gathered"): {
+        "__init__": "(self, width, items)",
+        "names": "(self)",
+        "hops": "(self)",
+        "leaves": "(self)",
+        "gatherers": "(self)",
+        "cells": "(self)",
+        "with_hole": "(self, name)",
+        "without_hole": "(self, name)",
+        "stands": "(self, name, withdrawn=())",
+        "standing": "(self, withdrawn=())",
+        "sent_by": "(self, hop, address, withdrawn=())",
+        "way": "(self, hop, address, withdrawn=())",
+        "end": "(self, hop, address, withdrawn=())",
+    },
+    ("desk", "Desk"): {
+        "__init__": "(self, gathered)",
+        "only": "(self, withdrawn)",
+        "put": "(self, item, region)",
+        "drop": "(self, name)",
+        "undo": "(self)",
+        "do": "(self, command)",
+        "do_all": "(self, *commands)",
+    },
+    ("desk", "Trial"): {
+        "__init__": "(self, desk)",
+    },
 }
 
 SIGNS = {
@@ -124,12 +205,17 @@ SIGNS = {
     ("items", "Leaf"): ["__repr__"],
     ("items", "Gatherer"): ["__repr__"],
     ("items", "Closed"): ["__repr__"],
+    ("gathered", "Gathered"): ["__getitem__", "__len__", "__contains__", "__add__", "__eq__", "__repr__"],
+    ("desk", "Desk"): ["__getitem__", "__setitem__", "__iadd__", "__isub__", "__len__"],
+    ("desk", "Trial"): ["__enter__", "__exit__"],
 }
 
 PROPERTIES = {
     ("tables", "Table"): ["width"],
     ("nets", "Net"): ["width", "many_rows"],
     ("late", "Late"): ["net"],
+    ("gathered", "Gathered"): ["width"],
+    ("desk", "Desk"): ["gathered", "withdrawn"],
 }
 
 
