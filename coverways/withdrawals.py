@@ -140,8 +140,8 @@ def _are_ranks_at(gathered, address, value):
 
 
 def _leads(goals):
-    """The dict from all hops to the lists of the hop, if it is one, to which they send."""
-    return {hop: [goal for goal in (goals[hop],) if goal in goals] for hop in goals}
+    """The dict from all hops to the lists of the hop to which each sends, empty ones if it is none."""
+    return {hop: [goal] if goal in goals else [] for hop, goal in goals.items()}
 
 
 def _falls_at(gathered, hop, pattern):
