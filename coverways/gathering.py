@@ -14,6 +14,7 @@ def gather(gathered, item, region):
     """The gathered net with a further gatherer, and its members' ways cut to the region."""
     if not isinstance(item, Gatherer):
         raise InvalidItems(None)
+    # The first member that is no item is UnknownItem here, ahead of all that is told of the region.
     members = [gathered[name] for name in item.members()]
     _check_region(gathered, item, members, region)
     _check_way(item, members, region)
